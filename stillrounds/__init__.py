@@ -1,0 +1,1 @@
+"""Stillrounds: which rounds find out, never too early, that all work is over."""

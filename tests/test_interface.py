@@ -1,0 +1,34 @@
+"""The interface: each name in its own file, with the arguments that are told."""
+
+import importlib
+import inspect
+import unittest
+
+FUNCTIONS = {
+    "books": {
+        "book_error": ["value"],
+        "world_error": ["value"],
+        "alike_for": ["tests", "manner", "many"],
+    },
+    "booktexts": {
+        "book_text": ["book"],
+        "read_book": ["value"],
+        "world_text": ["world"],
+        "read_world": ["value"],
+    },
+}
+
+
+class Interface(unittest.TestCase):
+    def test_functions(self):
+        for file, functions in FUNCTIONS.items():
+            module = importlib.import_module(f"stillrounds.{file}")
+            for name, arguments in functions.items():
+                with self.subTest(file=file, name=name):
+                    function = getattr(module, name)
+                    self.assertTrue(inspect.isfunction(function))
+                    self.assertEqual(function.__module__, module.__name__)
+                    parameters = inspect.signature(function).parameters.values()
+                    self.assertEqual([each.name for each in parameters], arguments)
+                    self.assertTrue(all(each.default is each.empty for each in parameters))
+                    self.assertTrue(all(each.kind is each.POSITIONAL_OR_KEYWORD for each in parameters))
