@@ -45,6 +45,78 @@ PART_A = (
     >>> read_book(None)
     raises BadText(0)
     """),
+    ("A8", r"""
+    >>> from stillrounds.knownbooks import known_book, known_names, known_worlds
+    >>> known_names()
+    ('colours', 'colours both ways', 'early sum', 'four counts', 'half sum', 'sent twice', 'sum and colours')
+    >>> known_book("four counts", 3), known_worlds("half sum")
+    (((('G1', 'S2'),), ((True, ()), (True, ()), (True, ()))), (('at once', 'alike'), ('slow', 'alike')))
+    >>> known_book("colours", 2)
+    ((), ((True, ('sent lower',)), (True, ('sent lower',))))
+    >>> known_book("colour", 2)
+    raises Unfit()
+    >>> known_book("colours", 7)
+    raises Unfit()
+    """),
+)
+
+PART_B = (
+    ("B2", r"""
+    >>> from stillrounds.standings import standing_error, start
+    >>> start((True, False))
+    (((True, 0, 0, ()), (False, 0, 0, ())), (), ((), 0, 0, False), None, 'no')
+    >>> [standing_error(many, start((True, False))) is None for many in (2, 3)], standing_error(3, start((True, False)))
+    ([True, False], 'form')
+    >>> sites, tour = start((False, False))[0], ((), 0, 0, False)
+    >>> [standing_error(2, value) for value in ((sites, ((0, 1, 0),), tour, None, "no"), (sites, (), ((1, 1), 0, 0, False), None, "no"), (sites, (), tour, 0, "no"), (sites, (), tour, None, None), (sites[:1] + ((1, 0, 0, ()),), (), tour, None, "no"))]
+    ['letters', 'tour', 'before', 'said', ('site', 1)]
+    """),
+    ("B3", r"""
+
+    """),
+    ("B4", r"""
+    >>> from stillrounds.moving import after, deed_error, led, open_deeds
+    >>> slow, quick, anew = ("slow", "alike"), ("at once", "alike"), ("slow", "anew")
+    >>> four = ((("G1", "S2"),), ((True, ()), (True, ())))
+    >>> sent = led(four, slow, (True, False), (("send", 0, 1), ("send", 0, 1), ("rest", 0)))
+    >>> sent
+    (((False, 2, 0, ('sent higher',)), (False, 0, 0, ())), ((0, 1, 2),), ((), 0, 0, False), None, 'no')
+    >>> open_deeds(four, slow, sent)
+    (('get', 0, 1), ('visit', 0))
+    >>> [deed_error(four, slow, sent, value) for value in (("get", 0, 1), ("visit", 1), ("send", 0, 1), ("get", 1, 0), ("rest", 2), ("send", 0, 0), ("visit",), None)]
+    [None, 'turn', 'rests', 'nothing', 'machine', 'machine', 'form', 'form']
+    >>> one = start((True, False))
+    >>> [deed_error(four, quick, one, value) for value in (("get", 0, 1), ("send", 0, 1), ("visit", 0), ("visit", 1))], deed_error(four, anew, one, ("visit", 1))
+    (['roads', None, 'works', 'turn'], None)
+    """),
+    ("B5", r"""
+    >>> after(four, slow, sent, ("get", 0, 1))
+    (((False, 2, 0, ('sent higher',)), (True, 0, 1, ('got lower',))), ((0, 1, 1),), ((), 0, 0, False), None, 'no')
+    >>> after(four, quick, one, ("send", 0, 1))
+    (((True, 1, 0, ('sent higher',)), (True, 0, 1, ('got lower',))), (), ((), 0, 0, False), None, 'no')
+    >>> rounds = (("send", 0, 1), ("rest", 0), ("visit", 0), ("visit", 1), ("visit", 0), ("visit", 1))
+    >>> led(four, slow, (True, False), rounds)
+    (((False, 1, 0, ()), (False, 0, 0, ())), ((0, 1, 1),), ((), 0, 0, False), (1, 0), 'no')
+    >>> led(((), four[1]), slow, (True, False), rounds)
+    (((False, 1, 0, ()), (False, 0, 0, ())), ((0, 1, 1),), ((0, 1), 1, 0, False), (1, 0), 'early')
+    >>> led(four, slow, (True, False), rounds + (("get", 0, 1), ("rest", 1), ("visit", 0), ("visit", 1), ("visit", 0), ("visit", 1)))
+    (((False, 1, 0, ()), (False, 0, 1, ())), (), ((0, 1), 1, 1, False), (1, 1), 'right')
+    >>> led(four, slow, (True, False), (("send", 0, 1), ("visit", 0)))
+    raises Refused(('visit', 0))
+    """),
+    ("B6", r"""
+    >>> from stillrounds.runtexts import read_run, run_text
+    >>> run_text((True, False), (("send", 0, 1), ("rest", 0), ("visit", 0))), run_text((False, False), ())
+    ('start wr\nsend 0 1\nrest 0\nvisit 0', 'start rr')
+    >>> read_run("start wr\nget 5 1")
+    ((True, False), (('get', 5, 1),))
+    >>> read_run("start w")
+    raises BadText(0)
+    >>> read_run("start wr\nvisit 6")
+    raises BadText(1)
+    >>> read_run("start wr\nrest 0\n")
+    raises BadText(2)
+    """),
 )
 
 
@@ -59,6 +131,9 @@ class Examples(unittest.TestCase):
 
     def test_books_and_worlds(self):
         self.show(PART_A)
+
+    def test_standings_and_deeds(self):
+        self.show(PART_B)
 
     def test_a_wrong_example_would_be_seen(self):
         self.assertNotEqual(run_example({}, "(True, 0)"), "(1, 0)")

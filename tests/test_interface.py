@@ -16,6 +16,25 @@ FUNCTIONS = {
         "world_text": ["world"],
         "read_world": ["value"],
     },
+    "knownbooks": {
+        "known_names": [],
+        "known_book": ["name", "many"],
+        "known_worlds": ["name"],
+    },
+    "standings": {
+        "start": ["works"],
+        "standing_error": ["many", "value"],
+    },
+    "moving": {
+        "deed_error": ["book", "world", "standing", "value"],
+        "open_deeds": ["book", "world", "standing"],
+        "after": ["book", "world", "standing", "deed"],
+        "led": ["book", "world", "works", "deeds"],
+    },
+    "runtexts": {
+        "run_text": ["works", "deeds"],
+        "read_run": ["value"],
+    },
 }
 
 
