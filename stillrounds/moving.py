@@ -104,15 +104,21 @@ def round_ended(tests, sites, letters, tour, before):
     return (sites, letters, NEW_TOUR, (sent, got), "no")
 
 
+def tour_behind(book, standing, machine):
+    """The tour that goes on in standing, when machine has been visited, too."""
+    visited, sent, got, spoilt = standing[2]
+    works, own_sent, own_got, noted = standing[0][machine]
+    spoils = works or any([word in book[1][machine][1] for word in noted])
+    return (visited + (machine,), sent + own_sent, got + own_got, spoilt or spoils)
+
+
 def visit_done(book, standing, machine):
-    tests, manners = book
-    sites, letters, (visited, sent, got, spoilt), before, said = standing
-    works, own_sent, own_got, noted = sites[machine]
-    spoils = works or any([word in manners[machine][1] for word in noted])
-    tour = (visited + (machine,), sent + own_sent, got + own_got, spoilt or spoils)
-    sites = with_item(sites, machine, (works, own_sent, own_got, ()))
+    sites, letters, _, before, said = standing
+    works, sent, got, _ = sites[machine]
+    tour = tour_behind(book, standing, machine)
+    sites = with_item(sites, machine, (works, sent, got, ()))
     if len(tour[0]) == len(sites):
-        return round_ended(tests, sites, letters, tour, before)
+        return round_ended(book[0], sites, letters, tour, before)
     return (sites, letters, tour, before, said)
 
 

@@ -104,6 +104,18 @@ def standing_behind(book, world, works, deeds):
     return (sites, letters_behind(events, many), tour, before, said)
 
 
+def rounds_behind(book, world, works, deeds):
+    """What each round that has ended told, and what was said at its end."""
+    many, events = len(works), events_of(world, deeds)
+    visits = [at for at, event in enumerate(events) if event[0] == "visit"]
+    found = []
+    for end in range(many, len(visits) + 1, many):
+        now = tour_behind(book, works, events, visits[end - many:end])
+        ahead = found[-1] if found else None
+        found.append(now + (said_behind(book, works, ahead, now, events[:visits[end - 1] + 1]),))
+    return tuple(found)
+
+
 def words_of_deeds(many):
     """All tuples that begin with a word of deeds, and machines, right ones and some that are none."""
     machines = list(range(-1, many + 2))

@@ -71,9 +71,6 @@ PART_B = (
     >>> [standing_error(2, value) for value in ((sites, ((0, 1, 0),), tour, None, "no"), (sites, (), ((1, 1), 0, 0, False), None, "no"), (sites, (), tour, 0, "no"), (sites, (), tour, None, None), (sites[:1] + ((1, 0, 0, ()),), (), tour, None, "no"))]
     ['letters', 'tour', 'before', 'said', ('site', 1)]
     """),
-    ("B3", r"""
-
-    """),
     ("B4", r"""
     >>> from stillrounds.moving import after, deed_error, led, open_deeds
     >>> slow, quick, anew = ("slow", "alike"), ("at once", "alike"), ("slow", "anew")
@@ -119,6 +116,79 @@ PART_B = (
     """),
 )
 
+PART_C = (
+    ("C2", r"""
+    >>> from stillrounds.rounds import holding, is_still, rounds_of
+    >>> from stillrounds.moving import led
+    >>> from stillrounds.standings import start
+    >>> slow = ("slow", "alike")
+    >>> four, none = ((("G1", "S2"),), ((True, ()), (True, ()))), ((), ((True, ()), (True, ())))
+    >>> early = (("send", 0, 1), ("rest", 0), ("visit", 0), ("visit", 1), ("visit", 0), ("visit", 1))
+    >>> [is_still(start(works)) for works in ((False, False), (True, False))], is_still(led(four, slow, (True, False), early))
+    ([True, False], False)
+    >>> holding((1, 0), (1, 0)), holding((2, 2), (4, 4)), holding((1, 1), (2, 1))
+    ((('G1', 'G2'), ('S1', 'S2')), (('G1', 'S1'), ('G2', 'S2')), (('G1', 'G2'), ('G1', 'S1'), ('G2', 'S1')))
+    >>> holding((0, 0), (0, 0))
+    (('G1', 'G2'), ('G1', 'S1'), ('G1', 'S2'), ('G2', 'S1'), ('G2', 'S2'), ('S1', 'S2'))
+    """),
+    ("C3", r"""
+    >>> rounds_of(four, slow, (True, False), early)
+    (((0, 1), 1, 0, False, 'no'), ((0, 1), 1, 0, False, 'no'))
+    >>> rounds_of(none, slow, (True, False), early)[1]
+    ((0, 1), 1, 0, False, 'early')
+    >>> cross = (("send", 1, 0), ("rest", 1), ("visit", 0), ("visit", 1), ("visit", 0), ("get", 1, 0), ("send", 0, 1), ("get", 0, 1), ("rest", 1), ("visit", 1))
+    >>> alone, noted = ((("G2", "S2"),), ((True, ()), (True, ()))), ((("G2", "S2"),), ((True, ()), (True, ("got lower",))))
+    >>> rounds_of(alone, slow, (False, True), cross)
+    (((0, 1), 1, 0, False, 'no'), ((0, 1), 1, 1, False, 'early'))
+    >>> rounds_of(noted, slow, (False, True), cross)
+    (((0, 1), 1, 0, False, 'no'), ((0, 1), 1, 1, True, 'no'))
+    """),
+    ("C4", r"""
+    >>> from stillrounds.lots import least_lot, lots
+    >>> [len(lot) for lot in lots()], lots()[0], lots()[2]
+    ([0, 6, 2, 1, 2, 1, 3, 1, 1], (), (('G1', 'G2'), ('S1', 'S2')))
+    >>> [len(least_lot((test,))) for test in lots()[1]]
+    [2, 1, 6, 1, 1, 1]
+    >>> least_lot((("G2", "S1"), ("S1", "S2"))), least_lot((("G1", "S1"), ("S1", "S2"))) == lots()[1]
+    ((('G2', 'S1'), ('G2', 'S2'), ('S1', 'S2')), True)
+    """),
+)
+
+PART_D = (
+    ("D2", r"""
+    >>> from stillrounds.rows import rows
+    >>> [len(rows((roads, tours))) for roads in ("slow", "at once") for tours in ("alike", "anew")]
+    [11, 13, 10, 14]
+    >>> rows(("slow", "alike"))[0], rows(("slow", "alike"))[6]
+    (((('G1', 'G2'), ('S1', 'S2')), (), ''), ((('G1', 'S1'), ('G2', 'S2')), ((False, ('got lower', 'sent higher')),), ''))
+    >>> rows(("at once", "alike"))[4]
+    ((('G1', 'S1'), ('G2', 'S2')), ((False, ('got higher', 'sent higher')), (False, ('got lower', 'sent lower'))), 'below')
+    >>> rows(("at once", "anew"))[11]
+    ((('G1', 'S1'), ('G2', 'S2')), ((True, ('sent higher',)), (False, ('got lower',))), 'third')
+    """),
+    ("D3", r"""
+    >>> from stillrounds.safety import falls, is_safe, safe_from
+    >>> worlds = (("slow", "alike"), ("at once", "alike"), ("slow", "anew"), ("at once", "anew"))
+    >>> fours = ((("G1", "S2"),), ((True, ()),) * 3)
+    >>> [is_safe(fours, world) for world in worlds]
+    [True, True, True, True]
+    >>> summed = ((("G2", "S2"),), ((True, ()), (True, ("got lower",)), (True, ("got lower",))))
+    >>> [falls(summed, world) for world in worlds]
+    [(), (), (1, 3, 5), (4, 6)]
+    >>> coloured = ((), ((True, ("sent lower",)),) * 3)
+    >>> [falls(coloured, world) for world in worlds]
+    [(0, 1, 3, 4, 5, 6), (), (0, 1, 2, 3, 4), (0, 1, 4, 5)]
+    >>> falls(((("G2", "S2"),), ((True, ()), (True, ()), (True, ("got lower",)))), worlds[0]), falls(((), ((True, ()),) * 2), worlds[0])
+    ((1, 5, 6), (0, 1, 3, 4, 5))
+    >>> falls(((("G1", "S1"),), ((False, ("sent higher",)),) * 2), worlds[0]), falls(((("G2", "S2"),), ((False, ()), (False, ("got lower",)))), worlds[0])
+    ((7, 9), ())
+    >>> [safe_from((("G1", "S1"),), (True, notes), worlds[0]) for notes in (("got higher",), ("sent higher",), ())]
+    [3, None, 2]
+    >>> safe_from((("G2", "S1"),), (True, ()), worlds[1]), safe_from((("G1", "S1"),), (True, ()), worlds[1]), safe_from((), (True, ("sent lower",)), worlds[1])
+    (3, 2, None)
+    """),
+)
+
 
 class Examples(unittest.TestCase):
     def show(self, part):
@@ -134,6 +204,12 @@ class Examples(unittest.TestCase):
 
     def test_standings_and_deeds(self):
         self.show(PART_B)
+
+    def test_rounds(self):
+        self.show(PART_C)
+
+    def test_safety(self):
+        self.show(PART_D)
 
     def test_a_wrong_example_would_be_seen(self):
         self.assertNotEqual(run_example({}, "(True, 0)"), "(1, 0)")

@@ -35,6 +35,23 @@ FUNCTIONS = {
         "run_text": ["works", "deeds"],
         "read_run": ["value"],
     },
+    "rounds": {
+        "is_still": ["standing"],
+        "holding": ["ahead", "now"],
+        "rounds_of": ["book", "world", "works", "deeds"],
+    },
+    "lots": {
+        "lots": [],
+        "least_lot": ["tests"],
+    },
+    "rows": {
+        "rows": ["world"],
+    },
+    "safety": {
+        "falls": ["book", "world"],
+        "is_safe": ["book", "world"],
+        "safe_from": ["tests", "manner", "world"],
+    },
 }
 
 

@@ -1,0 +1,46 @@
+"""At which machines of a book the entries of a row stand."""
+
+
+def is_above(word):
+    """Whether word tells of a machine of a higher number; otherwise it tells of one of a lower number."""
+    return word.endswith("higher")
+
+
+def has_sides(many, machine, words):
+    """Whether there are machines, of many, of which these words can tell at machine."""
+    return all([machine < many - 1 if is_above(word) else machine > 0 for word in words])
+
+
+def meets(manners, machine, entry):
+    awake, words = entry
+    waits, notes = manners[machine]
+    if waits and awake:
+        return False
+    return has_sides(len(manners), machine, words) and not any([word in notes for word in words])
+
+
+def thirds(many, entries, placed):
+    """The machines that can be the third one beside the two at which the entries are placed."""
+    first, second = placed
+    above = is_above(entries[0][1][0])
+    return [third for third in range(many) if third != second and (third > first if above else third < first)]
+
+
+def keeps_extra(many, row, placed):
+    """Whether these machines stand to each other as the row's extra asks."""
+    if row[2] == "below":
+        return placed[0] < placed[1]
+    return row[2] != "third" or len(thirds(many, row[1], placed)) > 0
+
+
+def placing(manners, row):
+    """A machine for each entry of row, in order, that meets it; None if there are none as the row asks."""
+    many = len(manners)
+    found = [()]
+    for entry in row[1]:
+        fitting = [machine for machine in range(many) if meets(manners, machine, entry)]
+        found = [placed + (machine,) for placed in found for machine in fitting]
+    for placed in found:
+        if keeps_extra(many, row, placed):
+            return placed
+    return None
