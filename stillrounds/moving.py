@@ -4,12 +4,8 @@ from stillrounds.books import NOTES
 from stillrounds.bounds import MAX_DEEDS
 from stillrounds.deeds import all_deeds, has_form, has_machines
 from stillrounds.errors import Refused, TooMany
+from stillrounds.parts import with_item
 from stillrounds.standings import NEW_TOUR, start
-
-
-def with_item(items, at, item):
-    """items with another item at one place."""
-    return items[:at] + (item,) + items[at + 1:]
 
 
 def letters_between(letters, sender, receiver):

@@ -6,6 +6,11 @@ def is_above(word):
     return word.endswith("higher")
 
 
+def beside(machine, word):
+    """The next machine on the side of which word tells."""
+    return machine + 1 if is_above(word) else machine - 1
+
+
 def has_sides(many, machine, words):
     """Whether there are machines, of many, of which these words can tell at machine."""
     return all([machine < many - 1 if is_above(word) else machine > 0 for word in words])
@@ -17,6 +22,11 @@ def meets(manners, machine, entry):
     if waits and awake:
         return False
     return has_sides(len(manners), machine, words) and not any([word in notes for word in words])
+
+
+def has_tests(row, tests):
+    """Whether all tests are among the equalities of row."""
+    return all([test in row[0] for test in tests])
 
 
 def thirds(many, entries, placed):

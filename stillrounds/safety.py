@@ -1,14 +1,13 @@
 """Which books are safe: those that fall to no row of their world."""
 
 from stillrounds.books import alike_for
-from stillrounds.bounds import MAX_MACHINES
-from stillrounds.placing import placing
+from stillrounds.placing import has_tests, placing
 from stillrounds.rows import rows
 
 
 def falls_to(book, row):
     tests, manners = book
-    return all([test in row[0] for test in tests]) and placing(manners, row) is not None
+    return has_tests(row, tests) and placing(manners, row) is not None
 
 
 def falls(book, world):
@@ -24,7 +23,7 @@ def is_safe(book, world):
 def safe_from(tests, manner, world):
     """The least number of like machines with which the book of these tests is not safe; None if there is none."""
     # Three like machines tell of all numbers: one between two others can stand for each entry.
-    for many in range(2, MAX_MACHINES + 1):
+    for many in (2, 3):
         if not is_safe(alike_for(tests, manner, many), world):
             return many
     return None

@@ -27,6 +27,11 @@ def is_tuple_of(value, many):
     return isinstance(value, tuple) and len(value) == many
 
 
+def are_works(value, many):
+    """Whether value is a tuple of many bools, which tell who works at first."""
+    return is_tuple_of(value, many) and all([isinstance(each, bool) for each in value])
+
+
 def is_ascending(items):
     """Whether each item is greater than the one ahead; they are of one kind."""
     return all([low < high for low, high in zip(items, items[1:])])

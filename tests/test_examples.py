@@ -187,6 +187,70 @@ PART_D = (
     >>> safe_from((("G2", "S1"),), (True, ()), worlds[1]), safe_from((("G1", "S1"),), (True, ()), worlds[1]), safe_from((), (True, ("sent lower",)), worlds[1])
     (3, 2, None)
     """),
+    ("D4", r"""
+    >>> from stillrounds.leasts import fewest_notes, needless
+    >>> needless(((("G1", "S2"), ("G2", "S2")), ((True, ("got lower",)), (False, ()))), worlds[0])
+    (('note', 0, 'got lower'), ('test', ('G2', 'S2')), ('waits', 0))
+    >>> needless(summed, worlds[0]), needless(((("G2", "S2"),), ((True, ("got higher", "got lower")),) * 2), worlds[0])
+    ((('waits', 0), ('waits', 1), ('waits', 2)), (('note', 0, 'got higher'), ('note', 0, 'got lower'), ('note', 1, 'got higher'), ('waits', 0), ('waits', 1)))
+    >>> fewest_notes((("G2", "S2"),), 3, worlds[0]) == (2, summed), [fewest_notes((("G2", "S1"),), many, worlds[0])[0] for many in (2, 3, 4)]
+    (True, [2, 4, 6])
+    >>> fewest_notes((), 3, worlds[0]), fewest_notes((), 3, worlds[1])[0], fewest_notes((("G2", "S2"),), 3, worlds[2])[0], fewest_notes((("S1", "S2"),), 6, worlds[3])[0]
+    (None, 2, 4, 0)
+    >>> needless(coloured, worlds[0])
+    raises Unfit()
+    >>> fewest_notes((), 7, worlds[1])
+    raises Unfit()
+    """),
+)
+
+PART_E_AND_F = (
+    ("E2", r"""
+    >>> from stillrounds.losejudge import losing_error
+    >>> from stillrounds.losing import losing
+    >>> slow, once = ("slow", "alike"), ("at once", "alike")
+    >>> calm, keen = (True, ()), (True, ("got lower",))
+    >>> [losing(((("G1", "S2"),), (calm,) * many), slow) for many in (2, 3, 6)]
+    [None, None, None]
+    >>> losing(((("G2", "S2"),), (calm, keen)), slow), losing(((("S1", "S2"),), (calm, calm)), once)
+    (None, None)
+    >>> sums = ((("G2", "S2"),), (calm, calm))
+    >>> [losing_error(sums, world, losing(sums, world)) for world in (slow, once, ("slow", "anew"), ("at once", "anew"))]
+    [None, None, None, None]
+    >>> colours = ((), ((True, ("sent lower",)),) * 4)
+    >>> losing(colours, once), losing_error(colours, slow, losing(colours, slow))
+    (None, None)
+    """),
+    ("E3", r"""
+    >>> caught = ((False, True), (("send", 1, 0), ("rest", 1), ("visit", 0), ("visit", 1), ("visit", 0), ("get", 1, 0), ("send", 0, 1), ("get", 0, 1), ("rest", 1), ("visit", 1)))
+    >>> losing_error(sums, slow, caught), losing_error(sums, once, caught), losing_error(((("G2", "S2"),), (calm, keen)), slow, caught)
+    (None, ('deed', 2), 'whole')
+    >>> works, deeds = caught
+    >>> [losing_error(sums, slow, value) for value in (None, (works,), (works, list(deeds)), ((0, 1), deeds), (works[:1], deeds), (works, deeds[:9]), (works, ()))]
+    ['form', 'form', 'form', 'works', 'works', 'whole', 'whole']
+    >>> losing_error(sums, slow, (works, deeds[1:])), losing_error(sums, slow, (works, deeds[:5] + deeds[6:])), losing_error(sums, slow, (works, deeds + (None,)))
+    (('deed', 4), ('deed', 5), ('deed', 10))
+    >>> losing_error(sums, slow, (works, deeds + (("send", 0, 1),) * 10)), losing_error(sums, slow, (works, deeds + (("send", 0, 1),) * 11))
+    (None, 'long')
+    """),
+    ("F2", r"""
+    >>> from stillrounds.wandering import come, earliest
+    >>> [come(sums, slow, (True, False), letters) for letters in (0, 1, 2)], [come(sums, slow, (True, True), letters) for letters in (0, 1, 2)]
+    ([6, 25, 103], [9, 58, 269])
+    >>> [come(sums, once, (True, False), letters) for letters in (0, 1, 2, 3)], come(((("G1", "S2"),), (calm, calm)), once, (True, False), 3)
+    ([6, 15, 41, 107], 101)
+    >>> earliest(sums, slow, 1), len(earliest(sums, slow, 2)[1]), earliest(sums, once, 3)
+    (None, 10, None)
+    >>> counts = ((("G1", "G2"), ("S1", "S2")), (calm, calm))
+    >>> len(earliest(counts, slow, 1)[1]), earliest(counts, once, 3), losing_error(counts, slow, earliest(counts, slow, 1))
+    (6, None, None)
+    >>> come(sums, slow, (True, True), 4)
+    raises Unfit()
+    >>> come(sums, slow, (True, False), 3)
+    raises TooMany(300)
+    >>> earliest(counts, slow, 2)
+    raises TooMany(300)
+    """),
 )
 
 
@@ -210,6 +274,9 @@ class Examples(unittest.TestCase):
 
     def test_safety(self):
         self.show(PART_D)
+
+    def test_losing_and_wandering(self):
+        self.show(PART_E_AND_F)
 
     def test_a_wrong_example_would_be_seen(self):
         self.assertNotEqual(run_example({}, "(True, 0)"), "(1, 0)")

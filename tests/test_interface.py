@@ -52,6 +52,20 @@ FUNCTIONS = {
         "is_safe": ["book", "world"],
         "safe_from": ["tests", "manner", "world"],
     },
+    "leasts": {
+        "needless": ["book", "world"],
+        "fewest_notes": ["tests", "many", "world"],
+    },
+    "losing": {
+        "losing": ["book", "world"],
+    },
+    "losejudge": {
+        "losing_error": ["book", "world", "value"],
+    },
+    "wandering": {
+        "come": ["book", "world", "works", "letters"],
+        "earliest": ["book", "world", "letters"],
+    },
 }
 
 

@@ -1,0 +1,30 @@
+"""What is wrong with a value as a losing run."""
+
+from stillrounds.errors import Refused
+from stillrounds.moving import after
+from stillrounds.shapes import are_works, is_tuple_of
+from stillrounds.standings import start
+
+
+def most_losing_deeds(many):
+    """How many deeds a losing run of many machines may have."""
+    return 2 * many + 16
+
+
+def losing_error(book, world, value):
+    """The first thing that is wrong with value as a losing run of book in world; None if it is one."""
+    if not is_tuple_of(value, 2) or not isinstance(value[1], tuple):
+        return "form"
+    works, deeds = value
+    many = len(book[1])
+    if not are_works(works, many):
+        return "works"
+    standing = start(works)
+    for place, deed in enumerate(deeds):
+        try:
+            standing = after(book, world, standing, deed)
+        except Refused:
+            return ("deed", place)
+    if standing[4] != "early":
+        return "whole"
+    return "long" if len(deeds) > most_losing_deeds(many) else None
