@@ -1,9 +1,7 @@
 """What is wrong with a value as a losing run."""
 
-from stillrounds.errors import Refused
-from stillrounds.moving import after
+from stillrounds.judging import led_as_far
 from stillrounds.shapes import are_works, is_tuple_of
-from stillrounds.standings import start
 
 
 def most_losing_deeds(many):
@@ -19,12 +17,10 @@ def losing_error(book, world, value):
     many = len(book[1])
     if not are_works(works, many):
         return "works"
-    standing = start(works)
-    for place, deed in enumerate(deeds):
-        try:
-            standing = after(book, world, standing, deed)
-        except Refused:
-            return ("deed", place)
+    # A losing run may be judged to be too long only behind all its deeds, however many they are.
+    standing, place = led_as_far(book, world, works, deeds)
+    if place is not None:
+        return ("deed", place)
     if standing[4] != "early":
         return "whole"
     return "long" if len(deeds) > most_losing_deeds(many) else None

@@ -16,6 +16,15 @@ def has_sides(many, machine, words):
     return all([machine < many - 1 if is_above(word) else machine > 0 for word in words])
 
 
+def notes_that_happen(manners):
+    """Pairs of a machine and a word that it notes and that can happen to it, the least machine ahead."""
+    many = len(manners)
+    return [
+        (machine, word) for machine, (_, notes) in enumerate(manners) for word in notes
+        if has_sides(many, machine, (word,))
+    ]
+
+
 def meets(manners, machine, entry):
     awake, words = entry
     waits, notes = manners[machine]
@@ -43,14 +52,17 @@ def keeps_extra(many, row, placed):
     return row[2] != "third" or len(thirds(many, row[1], placed)) > 0
 
 
-def placing(manners, row):
-    """A machine for each entry of row, in order, that meets it; None if there are none as the row asks."""
+def placings(manners, row):
+    """All ways to name a machine for each entry of row, in order, that meets it, as the row asks."""
     many = len(manners)
     found = [()]
     for entry in row[1]:
         fitting = [machine for machine in range(many) if meets(manners, machine, entry)]
         found = [placed + (machine,) for placed in found for machine in fitting]
-    for placed in found:
-        if keeps_extra(many, row, placed):
-            return placed
-    return None
+    return [placed for placed in found if keeps_extra(many, row, placed)]
+
+
+def placing(manners, row):
+    """A machine for each entry of row, in order, that meets it; None if there are none as the row asks."""
+    found = placings(manners, row)
+    return found[0] if found else None

@@ -253,6 +253,93 @@ PART_E_AND_F = (
     """),
 )
 
+PART_G = (
+    ("G2", r"""
+    >>> from stillrounds.epochs import comes, list_error, sums_of, woken
+    >>> some = ((0, 0, 1, 1), (1, 1, 0, 2))
+    >>> [list_error(2, value) for value in (some, (), some[::-1], some + some, ((0, 0, 0, 1),), ((0, 3, 1, 1),), [some], some * 7)]
+    [None, None, 'order', 'order', ('letter', 0), ('letter', 0), 'form', 'long']
+    >>> woken(2, some), woken(2, ((1, 0, 0, 2), (0, 2, 1, 1))[::-1]), woken(2, ((0, 1, 1, 1), (1, 1, 0, 1)))
+    (((0, None, 3), (0, 2, None)), ((0, None, 3), (0, 3, None)), ((0, None, None), (0, None, None)))
+    """),
+    ("G3", r"""
+    >>> [comes(2, value) for value in (some, ((0, 1, 1, 1),), ((0, 0, 1, 0), (0, 1, 1, 1), (1, 0, 0, 1)), ((0, 2, 1, 1), (1, 0, 0, 2)), ((0, 1, 1, 1), (1, 1, 0, 1)), ((0, 0, 1, 2),), ((1, 2, 0, 0),))]
+    [True, False, True, True, False, True, False]
+    >>> sums_of(2, some), sums_of(2, ((0, 0, 1, 1), (0, 0, 1, 2), (1, 1, 0, 2))), sums_of(2, ((0, 2, 1, 1), (1, 0, 0, 2)))
+    ((1, 0, 2, 1), (2, 0, 3, 1), (1, 0, 1, 1))
+    """),
+    ("G4", r"""
+    >>> from stillrounds.epochruns import list_of, run_of
+    >>> list_of(2, *run_of(2, some)) == some, run_of(2, ((0, 1, 1, 1),))
+    (True, None)
+    >>> list_of(2, (True, False), (("send", 0, 1), ("rest", 0), ("visit", 0), ("visit", 1), ("get", 0, 1), ("send", 1, 0), ("rest", 1), ("get", 1, 0), ("send", 0, 1), ("rest", 0), ("visit", 0), ("visit", 1)))
+    ((0, 0, 1, 1), (0, 1, 1, 3), (1, 1, 0, 1))
+    >>> crossed = ((0, 0, 1, 2), (0, 1, 1, 1), (1, 0, 0, 1))
+    >>> comes(2, crossed), list_of(2, *run_of(2, crossed))
+    (True, ((0, 0, 1, 1), (0, 1, 1, 2), (1, 0, 0, 1)))
+    """),
+)
+
+PART_H = (
+    ("H3", r"""
+    >>> from stillrounds.moving import led
+    >>> from stillrounds.soon import longest, longest_error, most_visits, visits_left
+    >>> from stillrounds.standings import start
+    >>> rests, slow, once = (True, ()), ("slow", "alike"), ("at once", "alike")
+    >>> four, balance = ((("G1", "S2"),), (rests, rests)), ((("G2", "S2"),), (rests, rests))
+    >>> noting = ((("G2", "S2"),), ((True, ("got lower",)), (True, ("got lower",))))
+    >>> visits_left(four, slow, start((False, False))), visits_left(balance, slow, start((False, False)))
+    (4, 4)
+    >>> woken = (("send", 1, 0), ("rest", 1), ("visit", 0), ("get", 1, 0), ("rest", 0))
+    >>> [visits_left(book, slow, led(book, slow, (False, True), woken)) for book in (four, balance, noting)]
+    [5, 3, 3]
+    >>> [most_visits(book, slow) for book in (four, balance, noting)], most_visits(noting, ("slow", "anew"))
+    ([5, 4, 4], 5)
+    >>> three = ((("G2", "S2"),), (rests,) + noting[1])
+    >>> most_visits(three, slow), most_visits(three, ("slow", "anew")), most_visits(((), (rests, (True, ("sent lower",)))), once)
+    (7, 8, 4)
+    >>> visits_left(four, slow, led(four, slow, (False, True), woken[:4]))
+    raises Unfit()
+    """),
+    ("H4", r"""
+    >>> longest_error(four, slow, ((False, True), woken)), longest_error(noting, slow, ((False, True), woken)), longest_error(four, slow, longest(four, slow))
+    (None, 'fewer', None)
+    >>> later = (("send", 0, 1), ("rest", 0), ("visit", 0), ("visit", 1), ("get", 0, 1), ("rest", 1))
+    >>> longest_error(noting, slow, ((True, False), later)), [longest_error(noting, slow, value) for value in (None, ((True,), ()), ((True, False), later[:5]), ((False, False), later))]
+    (None, ['form', 'form', 'restless', ('deed', 0)])
+    >>> longest_error(balance, slow, ((False, False), ())), longest_error(balance, slow, ((False, False), (("visit", 0), ("visit", 1)) * 2))
+    (None, 'said')
+    """),
+)
+
+PART_I = (
+    ("I2", r"""
+    >>> from stillrounds.carrying import carried, confusing, confusing_error, kept, suffices, told_apart
+    >>> balance, four, both = (("G2", "S2"),), (("G1", "S2"),), (("G1", "S1"), ("G2", "S2"))
+    >>> [carried(tests) for tests in ((), balance, four, both, (("G1", "G2"),), (("S1", "S2"),), (("G1", "G2"), ("G1", "S1")))]
+    [(), ('difference',), ('got', 'sent'), ('difference',), ('got',), ('sent',), ('got', 'sent')]
+    >>> [kept(tests) for tests in ((), balance, four, both, (("G1", "G2"), ("G1", "S1")), (("G1", "G2"), ("G2", "S1")), (("G1", "G2"), ("S1", "S2")))]
+    [(False, ()), (False, ()), (False, ('got',)), (True, ()), (True, ('got',)), (True, ('got',)), (False, ('got', 'sent'))]
+    """),
+    ("I3", r"""
+    >>> [suffices(tests, ((1, -1),)) for tests in (balance, both, four, (("G1", "G2"),), ())]
+    [True, True, False, False, True]
+    >>> suffices(four, ((2, 1), (1, 1))), suffices(four, ((2, 1), (4, 2))), suffices(balance, ((3, -3),)), suffices((("G1", "G2"),), ((1, 1),)), suffices((), ())
+    (True, False, True, False, True)
+    >>> confusing(balance, ((1, -1),)), confusing_error(four, ((1, -1),), confusing(four, ((1, -1),)))
+    (None, None)
+    >>> [confusing_error(four, ((1, -1),), value) for value in (((2, 2, 2, 2), (2, 2, 3, 3)), ((2, 2, 2, 2), (3, 2, 2, 2)), ((2, 2, 2, 2), (2, 2, 3, 2)), ((0, 2, 0, 2), (1, 3, 0, 2)), ((2, 2, 2, 2),), ((1, 1, 1, True), (1, 1, 2, 2)))]
+    [None, ('before', 0), ('now', 0), 'alike', 'form', 'form']
+    """),
+    ("I4", r"""
+    >>> told_apart(balance, (1, 2), (3, 4)), told_apart(both, (1, 2), (3, 4)), told_apart(four, (1, 2), (3, 2)), told_apart((), (0, 0), (1, 1))
+    (None, None, None, None)
+    >>> sums = told_apart(four, (2, 1), (2, 3))
+    >>> sums[0] in (1, 3), told_apart(both, (2, 2), (1, 2))[0] == told_apart(both, (2, 2), (1, 2))[1]
+    (True, True)
+    """),
+)
+
 
 class Examples(unittest.TestCase):
     def show(self, part):
@@ -277,6 +364,15 @@ class Examples(unittest.TestCase):
 
     def test_losing_and_wandering(self):
         self.show(PART_E_AND_F)
+
+    def test_epochs(self):
+        self.show(PART_G)
+
+    def test_soon(self):
+        self.show(PART_H)
+
+    def test_carrying(self):
+        self.show(PART_I)
 
     def test_a_wrong_example_would_be_seen(self):
         self.assertNotEqual(run_example({}, "(True, 0)"), "(1, 0)")

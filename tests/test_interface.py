@@ -66,6 +66,30 @@ FUNCTIONS = {
         "come": ["book", "world", "works", "letters"],
         "earliest": ["book", "world", "letters"],
     },
+    "epochs": {
+        "list_error": ["many", "value"],
+        "woken": ["many", "some"],
+        "comes": ["many", "some"],
+        "sums_of": ["many", "some"],
+    },
+    "epochruns": {
+        "run_of": ["many", "some"],
+        "list_of": ["many", "works", "deeds"],
+    },
+    "soon": {
+        "visits_left": ["book", "world", "standing"],
+        "most_visits": ["book", "world"],
+        "longest": ["book", "world"],
+        "longest_error": ["book", "world", "value"],
+    },
+    "carrying": {
+        "carried": ["tests"],
+        "kept": ["tests"],
+        "suffices": ["tests", "forms"],
+        "confusing": ["tests", "forms"],
+        "confusing_error": ["tests", "forms", "value"],
+        "told_apart": ["tests", "one", "other"],
+    },
 }
 
 
