@@ -30,11 +30,11 @@ def works_of(line):
     return tuple([sign == "w" for sign in signs])
 
 
-def deed_of(line):
-    """The deed that line tells; None if it is not built as told."""
+def deed_of(line, many):
+    """The deed of many machines that line tells; None if it is not built as told."""
     words = line.split(" ")
     deed = tuple([words[0]] + [MACHINES.get(word) for word in words[1:]])
-    return deed if has_form(deed) and has_machines(deed, MAX_MACHINES) else None
+    return deed if has_form(deed) and has_machines(deed, many) else None
 
 
 def read_run(value):
@@ -47,7 +47,7 @@ def read_run(value):
         raise BadText(0)
     deeds = []
     for number, line in enumerate(lines[1:], start=1):
-        deed = deed_of(line)
+        deed = deed_of(line, MAX_MACHINES)
         if deed is None or number > MAX_DEEDS:
             raise BadText(number)
         deeds.append(deed)

@@ -340,6 +340,111 @@ PART_I = (
     """),
 )
 
+PART_J = (
+    ("J2", r"""
+    >>> from stillrounds.whenever import parting, parting_error, says_whenever
+    >>> rests, got, sent = (True, ()), (True, ("got lower",)), (True, ("sent lower",))
+    >>> four, balance, noting, twice = ((("G1", "S2"),), (rests, rests)), ((("G2", "S2"),), (rests, rests)), ((("G2", "S2"),), (got, got)), ((("S1", "S2"),), (rests, rests))
+    >>> [says_whenever(four, book) for book in (four, balance, noting, twice)], [says_whenever(book, four) for book in (balance, noting, twice)]
+    ([True, True, True, True], [False, False, False])
+    >>> says_whenever(noting, balance), says_whenever(balance, noting), says_whenever(noting, twice), says_whenever(balance, twice), says_whenever(twice, balance)
+    (True, False, False, False, False)
+    >>> says_whenever(((("G1", "G2"),), (rests, rests)), twice), says_whenever(twice, ((("G1", "G2"),), (rests, rests)))
+    (True, False)
+    >>> says_whenever(four, ((("G1", "S2"),), (rests,) * 3))
+    raises Unfit()
+    >>> says_whenever(four, ((("G1", "S2"),), (rests, (False, ()))))
+    raises Unfit()
+    """),
+    ("J3", r"""
+    >>> late = (("send", 1, 0), ("rest", 1), ("visit", 0), ("visit", 1), ("get", 1, 0), ("rest", 0), ("visit", 0), ("visit", 1))
+    >>> parting_error(noting, four, ((False, True), late)), parting_error(balance, twice, ((False, True), late)), parting_error(noting, four, parting(noting, four))
+    (None, 'other', None)
+    >>> crossing = (("send", 1, 0), ("rest", 1), ("visit", 0), ("visit", 1), ("visit", 0), ("get", 1, 0), ("send", 0, 1), ("get", 0, 1), ("rest", 1), ("visit", 1))
+    >>> parting_error(balance, noting, ((False, True), crossing)), parting_error(balance, twice, ((False, True), crossing)), parting(four, twice)
+    (None, 'other', None)
+    >>> [parting_error(balance, noting, value) for value in (None, ((True,), ()), ((False, False), late), ((False, True), late[:4]), ((False, True), late[:4] + (("visit", 0), ("visit", 1))))]
+    ['form', 'form', ('deed', 0), 'visits', 'one']
+    """),
+)
+
+PART_K = (
+    ("K3", r"""
+    >>> from stillrounds.keepers import Keeper
+    >>> quiet, slow = (True, ()), ("slow", "alike")
+    >>> counted = ((("G1", "S1"),), (quiet, quiet))
+    >>> k = Keeper(counted, slow, (True, False))
+    >>> [k.do(("send", 0, 1)), k.do(("rest", 0)), k.version, k.deeds, k.undone, k.still()]
+    [1, 2, 2, (('send', 0, 1), ('rest', 0)), 0, False]
+    >>> k.standing[:2]
+    (((False, 1, 0, ('sent higher',)), (False, 0, 0, ())), ((0, 1, 1),))
+    >>> [k.undo(), k.undone, k.standing[0][0], k.redo(), k.undone, k.do(("get", 0, 1)), k.standing[0][1], k.standing[1]]
+    [1, 1, (True, 1, 0, ('sent higher',)), 2, 0, 3, (True, 0, 1, ('got lower',)), ()]
+    >>> [k.do(("visit", 0)), k.do(("rest", 1)), k.do(("visit", 1)), k.standing[2:]]
+    [4, 5, 6, (((), 0, 0, False), (1, 1), 'no')]
+    >>> [k.do(("visit", 0)), k.do(("visit", 1)), k.standing[2:], k.still()]
+    [7, 8, (((0, 1), 1, 1, False), (1, 1), 'right'), True]
+    >>> k.opened(), Keeper(counted, slow, (True, False)) == k
+    ((), False)
+    >>> k.do(("visit", 0))
+    raises Refused(('visit', 0))
+    >>> k.do(["rest", 0])
+    raises Refused(['rest', 0])
+    >>> k.redo()
+    raises NothingToRedo()
+    >>> Keeper(counted, slow, (True, False)).undo()
+    raises NothingToUndo()
+    >>> Keeper(counted, slow, (True,))
+    raises Unfit()
+    >>> Keeper((counted[0], ()), slow, (True, False))
+    raises BadBook('manners')
+    >>> j = Keeper(counted, slow, (True, False))
+    >>> [j.do(deed) for deed in (("rest", 0), ("visit", 0))], j.twin() == j, j.undo(), j.undo(), j.undone
+    ([1, 2], True, 1, 0, 2)
+    >>> [j.do(("rest", 0)), j.undone]
+    [1, 0]
+    """),
+    ("K4", r"""
+    >>> from stillrounds.logtexts import keeper_behind, log_text, read_log
+    >>> some = (("do", ("send", 0, 1)), ("undo",), ("redo",), ("do", ("rest", 0)))
+    >>> log_text(some), log_text(())
+    ('send 0 1\nundo\nredo\nrest 0\n', '')
+    >>> read_log(2, log_text(some)) == some, keeper_behind(counted, slow, (True, False), some).deeds, read_log(3, "visit 2")
+    (True, (('send', 0, 1), ('rest', 0)), (('do', ('visit', 2)),))
+    >>> read_log(2, "visit 2")
+    raises BadText(0)
+    >>> read_log(2, "rest 0\nsend 0 0\n")
+    raises BadText(1)
+    >>> read_log(2, "rest 0\n\n")
+    raises BadText(1)
+    >>> keeper_behind(counted, slow, (True, False), (("undo",),))
+    raises BadLog(0)
+    >>> keeper_behind(counted, slow, (True, False), (("do", ("rest", 0)), ("do", ("rest", 0))))
+    raises BadLog(1)
+    >>> keeper_behind(counted, slow, (True, False), [])
+    raises BadLog(0)
+    """),
+)
+
+PART_L = (
+    ("L2", r"""
+    >>> from stillrounds.shells import Shell
+    >>> s = Shell()
+    >>> [s.say(line) for line in ("safe", "start wr", "said", "text", "world slow, alike", "falls", "book tests G1=S1\nwaits\nwaits", "falls", "safe", "known 3 four counts", "safe", "text")]
+    ['no book', 'no book', 'no run', 'no book', 'slow, alike', 'no book', '2', '4 5', 'no', '3', 'yes', 'tests G1=S2\nwaits\nwaits\nwaits']
+    >>> [s.say(line) for line in ("known 2 early sum", "start w", "start wr", "send 0 1", "rest 0", "letters", "machine 0", "open", "get 0 1", "machine 1", "visit 0", "tour")]
+    ['2', 'error Unfit', 'begun', 'version 1', 'version 2', '0>1 1', 'rests 1 0: sent higher', 'get 0 1, visit 0', 'version 3', 'works 0 1: got lower', 'version 4', '0; 1 0; spoilt']
+    >>> [s.say(line) for line in ("visit 1", "rest 1", "visit 1", "before", "tour", "visit 0", "visit 1", "said", "still", "tour", "open", "visit 0")]
+    ['error Refused', 'version 5', 'version 6', '1 1', 'none; 0 0', 'version 7', 'version 8', 'right', 'yes', '0 1; 1 1', 'none', 'error Refused']
+    >>> [s.say(line) for line in ("undo", "said", "redo", "redo", "machine 2", "run")]
+    ['version 7', 'no', 'version 8', 'error NothingToRedo', 'error Unfit', 'start wr\nsend 0 1\nrest 0\nget 0 1\nvisit 0\nrest 1\nvisit 1\nvisit 0\nvisit 1']
+    >>> [s.say(line) for line in ("book tests none\nwaits", "book tests", "world slow", "known 9 colours", "known 2 colour", "send 0 7", "send 0", "Visit 0", "start", "start wx", "said ", None)]
+    ['error BadBook', 'error BadText', 'error BadText', 'error Unfit', 'error Unfit', 'error Refused', 'what', 'what', 'what', 'what', 'what', 'what']
+    >>> [s.say(line) for line in ("said", "world at once, alike", "said", "safe")]
+    ['right', 'at once, alike', 'no run', 'yes']
+    """),
+)
+
 
 class Examples(unittest.TestCase):
     def show(self, part):
@@ -373,6 +478,15 @@ class Examples(unittest.TestCase):
 
     def test_carrying(self):
         self.show(PART_I)
+
+    def test_whenever(self):
+        self.show(PART_J)
+
+    def test_keepers_and_logs(self):
+        self.show(PART_K)
+
+    def test_shells(self):
+        self.show(PART_L)
 
     def test_a_wrong_example_would_be_seen(self):
         self.assertNotEqual(run_example({}, "(True, 0)"), "(1, 0)")

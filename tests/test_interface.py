@@ -90,6 +90,23 @@ FUNCTIONS = {
         "confusing_error": ["tests", "forms", "value"],
         "told_apart": ["tests", "one", "other"],
     },
+    "whenever": {
+        "says_whenever": ["one", "other"],
+        "parting": ["one", "other"],
+        "parting_error": ["one", "other", "value"],
+    },
+    "logtexts": {
+        "log_text": ["log"],
+        "read_log": ["many", "value"],
+        "keeper_behind": ["book", "world", "works", "value"],
+    },
+}
+CLASSES = {
+    ("keepers", "Keeper"): {
+        "__init__": ["book", "world", "works"], "opened": [], "still": [], "do": ["deed"], "undo": [], "redo": [],
+        "twin": [], "__eq__": ["other"],
+    },
+    ("shells", "Shell"): {"__init__": [], "say": ["line"]},
 }
 
 
@@ -106,3 +123,21 @@ class Interface(unittest.TestCase):
                     self.assertEqual([each.name for each in parameters], arguments)
                     self.assertTrue(all(each.default is each.empty for each in parameters))
                     self.assertTrue(all(each.kind is each.POSITIONAL_OR_KEYWORD for each in parameters))
+
+    def test_classes(self):
+        for (file, name), methods in CLASSES.items():
+            module = importlib.import_module(f"stillrounds.{file}")
+            kind = getattr(module, name)
+            self.assertTrue(inspect.isclass(kind))
+            self.assertEqual(kind.__module__, module.__name__)
+            for method, arguments in methods.items():
+                with self.subTest(name=name, method=method):
+                    parameters = list(inspect.signature(vars(kind)[method]).parameters.values())[1:]
+                    self.assertEqual([each.name for each in parameters], arguments)
+                    self.assertTrue(all(each.default is each.empty for each in parameters))
+
+    def test_attributes_of_new_keepers(self):
+        book = ((), ((True, ()),) * 2)
+        keeper = importlib.import_module("stillrounds.keepers").Keeper(book, ("slow", "anew"), (True, True))
+        for name in ("book", "world", "works", "standing", "deeds", "version", "undone"):
+            self.assertIn(name, vars(keeper))
